@@ -1,0 +1,1 @@
+"""Bridgefind: one search through many rows."""
