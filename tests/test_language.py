@@ -1,6 +1,7 @@
 """The package keeps to the part of Python that LANGUAGE.md allows.
 
-Not each rule can be read off the code; what stands here are those that can, with the rule's number.
+Only a part of the rules is checked, some of them in part: L1 to L8, L10, L12, L14 to L18, L20, L25, L27.
+The others (L9, L11, L13, L19, L21 to L24, L26, L28) are to be read for by eye.
 """
 
 import ast
