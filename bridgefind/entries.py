@@ -4,11 +4,13 @@
 KNOT_NUMBERS = 64
 
 
-def is_key(thing):
+def is_whole(thing):
     # to isinstance a truth is an int too, but it is no whole number
-    if isinstance(thing, bool) or not isinstance(thing, int):
-        return False
-    return abs(thing) < 10 ** 60
+    return isinstance(thing, int) and not isinstance(thing, bool)
+
+
+def is_key(thing):
+    return is_whole(thing) and abs(thing) < 10 ** 60
 
 
 def code(entry):

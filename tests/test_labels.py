@@ -4,39 +4,7 @@ import random
 import unittest
 
 from bridgefind.labels import labels, lowest_unlike, turned
-
-SIXTY = int("9" * 60)
-
-
-def figures(number):
-    """The 260 lowest binary figures, the lowest first."""
-    return format(number, "0260b")[::-1]
-
-
-def plainly_turned(numbers):
-    """Point 6 word by word, over written figures."""
-    told = []
-    for at, number in enumerate(numbers):
-        if at == 0:
-            told.append(number % 2)
-            continue
-        here = figures(number)
-        ahead = figures(numbers[at - 1])
-        b = [here[k] == ahead[k] for k in range(260)].index(False)
-        told.append(2 * b + int(here[b]))
-    return told
-
-
-def plain_code(entry):
-    key, knot = entry
-    return 64 * (2 * key if key >= 0 else -2 * key - 1) + knot
-
-
-def plain_labels(entries, turns=5):
-    numbers = [plain_code(entry) for entry in entries]
-    for each in range(turns):
-        numbers = plainly_turned(numbers)
-    return numbers
+from plain import SIXTY, neighbours_alike, plain_labels, plainly_turned, some_entries
 
 
 def some_numbers(chance, length, bound):
@@ -46,17 +14,6 @@ def some_numbers(chance, length, bound):
         if not numbers or numbers[-1] != number:
             numbers.append(number)
     return numbers
-
-
-def some_entries(chance, length, far):
-    entries = {}
-    while len(entries) < length:
-        entries[(chance.randint(-far, far), chance.randrange(64))] = True
-    return sorted(entries)
-
-
-def neighbours_alike(numbers):
-    return any(one == other for one, other in zip(numbers, numbers[1:]))
 
 
 class LowestUnlike(unittest.TestCase):
