@@ -22,11 +22,14 @@ def starts_of(full, child_full):
     return told
 
 
-def bridges(stand):
-    tree = stand[0]
-    fulls = full_rows(stand)
+# Whoever has the full rows already draws from here, so that they aren't laid twice.
+def bridges_of(tree, fulls):
     told = []
     for knot, full in enumerate(fulls):
         jumps = [(child, starts_of(full, fulls[child])) for child in children(tree, knot)]
         told.append((len(full), owns_of(full, knot), jumps))
     return told
+
+
+def bridges(stand):
+    return bridges_of(stand[0], full_rows(stand))

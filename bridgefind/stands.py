@@ -35,15 +35,18 @@ def stand_of(tree, rows):
     return (tree, told)
 
 
+def own_entries(stand, knot):
+    return [(key, knot) for key in stand[1][knot]]
+
+
 # The full rows of the knots beneath one, by knot: what lies elsewhere has no part in them.
 def full_rows_beneath(stand, knot):
     tree = stand[0]
-    rows = stand[1]
     told = {}
     # a child's number is greater than its parent's, so from the last on its full row is there in time
     for at in reversed(beneath(tree, knot)):
         parts = [handed(told[child]) for child in children(tree, at)]
-        parts.append([(key, at) for key in rows[at]])
+        parts.append(own_entries(stand, at))
         told[at] = joined_up(parts)
     return told
 

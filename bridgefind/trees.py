@@ -1,7 +1,7 @@
 """Trees of knots, what lies beneath a knot, and ways down."""
 
 from bridgefind.entries import is_whole
-from bridgefind.errors import NoTree
+from bridgefind.errors import NoTree, NoWay
 
 MOST_KNOTS = 40
 
@@ -47,6 +47,11 @@ def is_way(tree, thing):
         if tree[thing[at]] != thing[at - 1]:
             return False
     return True
+
+
+def need_way(tree, thing):
+    if not is_way(tree, thing):
+        raise NoWay("a way is a list of knots, each but the first a child of the one ahead")
 
 
 def way_down(tree, one, other):

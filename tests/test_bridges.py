@@ -5,31 +5,9 @@ import random
 import unittest
 
 from bridgefind.bridges import bridges
-from plain import chain, lists_within, plain_beneath, plain_full_rows, some_stands
+from plain import chain, lists_within, plain_bridges, some_stands
 
 STANDS = some_stands(random.Random(51))
-
-
-def plain_starts(full, child_full, under):
-    """For each p, over the first p entries alone."""
-    told = []
-    for p in range(len(full) + 1):
-        handed_on = [entry for entry in full[:p] if entry[1] in under]
-        told.append(child_full.index(handed_on[-1]) + 1 if handed_on else 0)
-    return told
-
-
-def plain_bridges(stand):
-    """Point 16 word by word."""
-    tree = stand[0]
-    fulls = plain_full_rows(stand)
-    told = []
-    for knot, full in enumerate(fulls):
-        owns = [len([entry for entry in full[:p] if entry[1] == knot]) for p in range(len(full) + 1)]
-        jumps = [(child, plain_starts(full, fulls[child], plain_beneath(tree, child)))
-                 for child in range(len(tree)) if tree[child] == knot]
-        told.append((len(full), owns, jumps))
-    return told
 
 
 def numbers_within(thing):

@@ -7,20 +7,8 @@ import unittest
 
 from bridgefind.errors import NoTree
 from bridgefind.trees import beneath, children, is_way, tree_of, way_down
-from plain import broom, chain, plain_beneath, some_trees, ways_up
-
-TREE = (None, 0, 0, 1, 1, 2, 4)
-LONG = 10 ** 6000
-
-
-class LikeAny:
-    """A thing that says it is like any other."""
-
-    def __eq__(self, other):
-        return True
-
-    def __hash__(self):
-        return 0
+from plain import (BEYOND_KNOTS, LONG, NO_LISTS, NO_NUMBERS, TREE, WRONG_TURNS, LikeAny, all_ways, broom, chain,
+                   plain_beneath, some_trees, ways_up, with_no_number)
 
 
 def trees():
@@ -183,14 +171,12 @@ class IsWay(unittest.TestCase):
         self.tells([0], True, (None,))
 
     def test_left_out_told_twice_turned_about(self):
-        for thing in ([0, 4], [0, 6], [1, 6], [0, 1, 6], [0, 0], [0, 1, 1], [1, 1, 4], [0, 1, 4, 6, 6], [1, 0],
-                      [6, 4, 1, 0], [3, 4], [1, 2], [0, 2, 3], [0, 1, 0], [5, 0], [6, 0], [3, 0, 1]):
+        for thing in WRONG_TURNS:
             with self.subTest(thing=thing):
                 self.tells(thing, False)
 
     def test_beyond_the_knots_and_below_0(self):
-        for thing in ([7], [40], [-1], [-7], [0, 7], [0, -6], [-7, 1], [-7, -6], [6, 7], [6, -7], [LONG],
-                      [-LONG], [0, LONG], [0, 1, -LONG]):
+        for thing in BEYOND_KNOTS:
             with self.subTest(length=len(thing)):
                 self.tells(thing, False)
         self.tells([1], False, (None,))
@@ -198,8 +184,7 @@ class IsWay(unittest.TestCase):
         self.tells([0, -39], False, chain(40))
 
     def test_what_is_no_list(self):
-        for thing in (None, True, False, 0, 1, "", "0", "01", (), (0,), (0, 1), {}, {0: 1}, {0}, range(1),
-                      range(2), b"\0", bytearray(b"\0"), 0.0, object(), list, iter([0]), TREE, LikeAny()):
+        for thing in NO_LISTS:
             with self.subTest(kind=type(thing)):
                 self.tells(thing, False)
 
@@ -208,10 +193,9 @@ class IsWay(unittest.TestCase):
         self.tells([], False, (None,))
 
     def test_lists_with_other_things(self):
-        for other in (None, True, False, "", "0", "1", [], [0], [1], (), (0,), {}, {0: 0}, {0}, 0.0, 1.0,
-                      float("nan"), 1j, b"\1", object(), int, LikeAny()):
+        for other in NO_NUMBERS:
             with self.subTest(kind=type(other)):
-                for thing in ([other], [other, 1], [0, other], [other, 0], [0, other, 3], [0, 1, other]):
+                for thing in with_no_number(other):
                     self.tells(thing, False)
 
     def test_lists_that_hold_themselves(self):
@@ -221,7 +205,7 @@ class IsWay(unittest.TestCase):
 
     def test_all_short_lists(self):
         for tree in ((None,), (None, 0), (None, 0, 0, 1), TREE):
-            ways = [ways_up(tree, knot)[:many][::-1] for knot in range(len(tree)) for many in range(1, 5)]
+            ways = all_ways(tree)
             for many in range(4):
                 for thing in itertools.product(range(-1, len(tree) + 1), repeat=many):
                     self.tells(list(thing), list(thing) in ways, tree)
