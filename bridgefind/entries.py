@@ -1,5 +1,7 @@
 """Keys, entries and their codes; places in rows and in lists of entries; lists joined."""
 
+from bridgefind.errors import NoKey
+
 # knots are numbered from 0 to 63: with this many codes for each key no two entries share one
 KNOT_NUMBERS = 64
 
@@ -11,6 +13,11 @@ def is_whole(thing):
 
 def is_key(thing):
     return is_whole(thing) and abs(thing) < 10 ** 60
+
+
+def need_key(thing):
+    if not is_key(thing):
+        raise NoKey("a key is a whole number of at most sixty figures")
 
 
 def code(entry):

@@ -2,15 +2,14 @@
 
 from bridgefind.bridges import bridges_of
 from bridgefind.entries import is_whole
-from bridgefind.search import MOST_BEHIND_START, search, start_in
+from bridgefind.search import MOST_BEHIND_START, search_for_key, start_in
 from bridgefind.stands import full_rows
 from bridgefind.trees import need_way
 
 
 def paper_of(stand, way, key):
     need_way(stand[0], way)
-    fulls = full_rows(stand)
-    found = search(bridges_of(stand[0], fulls), way, lambda knot, at: fulls[knot][at][0] < key)
+    found = search_for_key(stand[0], full_rows(stand), way, key)
     return [(knot, each[0], each[1]) for knot, each in zip(way, found)]
 
 

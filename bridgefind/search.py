@@ -1,5 +1,6 @@
 """Searches: once through a first full row, then over the bridges, with two looks at most for each next place."""
 
+from bridgefind.bridges import bridges_of
 from bridgefind.entries import how_many_below
 
 # between two entries that are handed on lie one or two, so from a start on two at most are below the key
@@ -29,6 +30,11 @@ def search(bridges, way, is_below):
         at = next_place(bridges, knot, start_in(bridges, parent, at, knot), is_below)
         told.append((at, bridges[knot][1][at]))
     return told
+
+
+# No key stands in the bridges, so the full rows are asked.
+def search_for_key(tree, fulls, way, key):
+    return search(bridges_of(tree, fulls), way, lambda knot, at: fulls[knot][at][0] < key)
 
 
 def search_beneath(bridges, knot, is_below):

@@ -35,6 +35,11 @@ def stand_of(tree, rows):
     return (tree, told)
 
 
+def with_row(stand, knot, row):
+    rows = stand[1]
+    return (stand[0], rows[:knot] + (row,) + rows[knot + 1:])
+
+
 def own_entries(stand, knot):
     return [(key, knot) for key in stand[1][knot]]
 

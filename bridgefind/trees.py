@@ -1,7 +1,7 @@
 """Trees of knots, what lies beneath a knot, and ways down."""
 
 from bridgefind.entries import is_whole
-from bridgefind.errors import NoTree, NoWay
+from bridgefind.errors import NoKnot, NoTree, NoWay
 
 MOST_KNOTS = 40
 
@@ -22,6 +22,11 @@ def tree_of(parents):
         if not is_one_of_first(knot, parents[knot]):
             raise NoTree(f"the parent of knot {knot} is no lesser knot")
     return tuple(parents)
+
+
+def need_knot(tree, thing):
+    if not is_one_of_first(len(tree), thing):
+        raise NoKnot("a knot is the number of one that the tree has")
 
 
 def children(tree, knot):

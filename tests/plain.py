@@ -3,6 +3,9 @@
 Nothing here draws from the package.
 """
 
+import itertools
+import re
+
 SIXTY = int("9" * 60)
 LONG = 10 ** 6000
 
@@ -30,6 +33,14 @@ NO_LISTS = (None, True, False, 0, 1, "", "0", "01", (), (0,), (0, 1), {}, {0: 1}
             bytearray(b"\0"), 0.0, object(), list, iter([0]), TREE, LikeAny())
 NO_NUMBERS = (None, True, False, "", "0", "1", [], [0], [1], (), (0,), {}, {0: 0}, {0}, 0.0, 1.0, float("nan"),
               1j, b"\1", object(), int, LikeAny())
+
+NO_TEXTS = tuple(thing for thing in NO_LISTS + NO_NUMBERS if not isinstance(thing, str))
+
+# words that are no whole number written as point 25 says, and some that are one, but no key
+UNWRITTEN = ("", "-", "--1", "+1", "+0", "-0", "00", "01", "007", "-01", "-007", "0x1", "1_0", "1e3", "1.0", "1.", ".5",
+             "1,2", "a", "3a", "a3", "None", "True", "root", "under", "1-", "1-2", "'1'", "(1)", "1/1", "~", "!", "3;",
+             "-a", "1\t", "\t1", "0" * 60 + "1")
+FAR_KEYS = ("1" + "0" * 60, "-1" + "0" * 60, "9" * 61, "-" + "9" * 61, "9" * 3000, "-" + "9" * 3000)
 
 
 def with_no_number(other):
@@ -157,6 +168,50 @@ def plain_places(fulls, rows, key):
             for full, row in zip(fulls, rows)]
 
 
+def is_stand(thing):
+    """Whether it is a stand as point 13 makes them, of just the kinds that are named."""
+    if type(thing) is not tuple or [type(part) for part in thing] != [tuple, tuple]:
+        return False
+    tree, rows = thing
+    if not 1 <= len(tree) <= 40 or len(rows) != len(tree) or tree[0] is not None:
+        return False
+    if not all(type(parent) is int and 0 <= parent < knot for knot, parent in enumerate(tree) if knot > 0):
+        return False
+    if any(type(row) is not tuple or list(row) != sorted(set(row)) for row in rows):
+        return False
+    keys = [key for row in rows for key in row]
+    return len(keys) <= 300 and all(type(key) is int and abs(key) <= SIXTY for key in keys)
+
+
+def with_keys(stand, knot, keys):
+    rows = list(stand[1])
+    rows[knot] = tuple(sorted(keys))
+    return (stand[0], tuple(rows))
+
+
+def plain_put(stand, knot, key):
+    return with_keys(stand, knot, stand[1][knot] + (key,))
+
+
+def plain_out(stand, knot, key):
+    return with_keys(stand, knot, [other for other in stand[1][knot] if other != key])
+
+
+def plain_hang(stand, parent):
+    return (stand[0] + (parent,), stand[1] + ((),))
+
+
+def plain_deed(before, after, knot):
+    """Point 22 word by word, of the stands ahead of a deed and behind it, their full rows laid anew."""
+    olds, news = plain_full_rows(before), plain_full_rows(after)
+    told = []
+    for at in ways_up(before[0], knot):
+        if olds[at] == news[at]:
+            break
+        told.append((at, sorted(set(olds[at]) - set(news[at])), sorted(set(news[at]) - set(olds[at]))))
+    return told
+
+
 def ways_up(tree, knot):
     """A knot, its parent, and so on to the first one."""
     told = []
@@ -255,6 +310,59 @@ def some_keys_about(chance, stand, many):
     if len(keys) <= many:
         return keys
     return sorted(set(keys[:2] + keys[-2:] + chance.sample(keys, many)))
+
+
+def is_written(word):
+    """Whether a word is a whole number, written as point 25 says."""
+    return re.fullmatch("0|-?[1-9][0-9]*", word) is not None
+
+
+def plain_text(stand):
+    lines = []
+    for knot, parent in enumerate(stand[0]):
+        line = "root" if knot == 0 else "under " + str(parent)
+        for key in stand[1][knot]:
+            line = line + " " + str(key)
+        lines.append(line)
+    return "\n".join(lines)
+
+
+def plain_read(text):
+    """Point 25 word by word, sign by sign: a stand, or the number of the first line at which it is none."""
+    tree, rows = [], []
+    for at, line in enumerate(text.split("\n")):
+        words = line.split(" ")
+        parent = None
+        if words.pop(0) != ("root" if at == 0 else "under"):
+            return at
+        if at > 0:
+            if not words or not re.fullmatch("0|[1-9][0-9]?", words[0]) or int(words[0]) >= at:
+                return at
+            parent = int(words.pop(0))
+        if not all(is_written(word) and len(word.replace("-", "")) <= 60 for word in words):
+            return at
+        row = [int(word) for word in words]
+        if row != sorted(set(row)) or at >= 40 or sum(map(len, rows)) + len(row) > 300:
+            return at
+        tree.append(parent)
+        rows.append(tuple(row))
+    return (tuple(tree), tuple(rows))
+
+
+def right_orders(tree):
+    """All orders by which the knots of a small tree may be named anew."""
+    return [list(order) for order in itertools.permutations(range(len(tree)))
+            if all(order[parent] < order[knot] for knot, parent in enumerate(tree) if knot > 0)]
+
+
+def some_order(chance, tree):
+    """The knots get their new numbers one by one, each by chance, when the parent has its own."""
+    order = [None] * len(tree)
+    for number in range(len(tree)):
+        free = [knot for knot, parent in enumerate(tree)
+                if order[knot] is None and (knot == 0 or order[parent] is not None)]
+        order[chance.choice(free)] = number
+    return order
 
 
 def lists_within(thing):

@@ -1,7 +1,7 @@
 """The package keeps to the part of Python that LANGUAGE.md allows.
 
-Only a part of the rules is checked, some of them in part: L1 to L8, L10, L12, L14 to L18, L20, L25, L27.
-The others (L9, L11, L13, L19, L21 to L24, L26, L28) are to be read for by eye.
+Only a part of the rules is checked, some of them in part: L1 to L8, L10, L12, L14 to L28.
+The others (L9, L11, L13) are to be read for by eye.
 """
 
 import ast
@@ -33,6 +33,15 @@ importlib license locals methodcaller os quit setattr super vars sys format form
 BANNED_WORDS = set("""type typing typing_extensions enum Enum IntEnum StrEnum Flag IntFlag Generic Protocol
 ABC ABCMeta namedtuple NamedTuple TypedDict TYPE_CHECKING abstractmethod""".split())
 BANNED_WITHIN = ("dataclass", "overload", "contextmanager")
+WALKED = {"zip", "enumerate", "reversed", "range"}
+WALKED_METHODS = {"items", "keys", "values"}
+WALKERS = {"list", "tuple", "dict", "sorted", "sum", "any", "all", "enumerate", "zip", "min", "max"}
+KEYWORDS = {"sorted": {"key", "reverse"}, "min": {"key", "default"}, "max": {"key", "default"}, "sum": {"start"},
+            "enumerate": {"start"}, "zip": {"strict"}}
+NO_VALUES = set("""items keys values pop update append clear extend insert remove reverse setdefault sort args encode
+format""".split())
+MAY_BE_VALUES = set("count index title find get join lower upper split strip copy add".split())
+OF_PYTHONS_VALUES = {name for kind in (str, int, list, tuple, dict, set, frozenset, bytes) for name in dir(kind)}
 PYTHONS_OWN = set(dir(__builtins__) if not isinstance(__builtins__, dict) else __builtins__)
 
 
@@ -177,16 +186,104 @@ def name_faults(node, own):
     return []
 
 
-def own_attributes(trees):
-    """What the package's classes have: their methods, and the values that they give to self."""
-    own = set()
+def called(node):
+    """The name of Python's own or the program's that is called here, or None."""
+    return node.func.id if isinstance(node, ast.Call) and isinstance(node.func, ast.Name) else None
+
+
+def handler_faults(node):
+    """L19: what may be taken, and round what."""
+    faults = []
+    inside = [part for statement in node.body for part in ast.walk(statement)]
+    for handler in node.handlers:
+        names = [part.id for part in ast.walk(handler.type) if isinstance(part, ast.Name)]
+        if {"Exception", "TypeError"}.intersection(names):
+            faults.append(("L19", handler.lineno))
+        calls = [part for part in inside if isinstance(part, ast.Call)]
+        if {"ValueError", "LookupError"}.intersection(names):
+            round_right = all(called(part) in ("int", "str") or isinstance(part.func, ast.Attribute)
+                              and part.func.attr in ("index", "remove") for part in calls)
+            plain = not any(isinstance(part, (ast.JoinedStr, ast.Slice, ast.Lambda)) for part in inside)
+            if not round_right or not plain or len(node.body) > 1:
+                faults.append(("L19", handler.lineno))
+        if "IndexError" in names and (calls or len(node.body) > 1):
+            faults.append(("L19", handler.lineno))
+    return faults
+
+
+def call_faults(node, above):
+    """L22 to L24: Python's own as they are called, walked at once, and sets."""
+    name, line, faults = called(node), node.lineno, []
+    if name in BUILTINS and not KEYWORDS.get(name, set()).issuperset(part.arg for part in node.keywords):
+        faults.append(("L22", line))
+    if name == "isinstance" and not isinstance(node.args[1], (ast.Name, ast.Tuple)):
+        faults.append(("L22", line))
+    method = node.func.attr if isinstance(node.func, ast.Attribute) else None
+    if name in WALKED or method in WALKED_METHODS:
+        behind_in = isinstance(above, (ast.For, ast.comprehension)) and above.iter is node
+        walked = called(above) in WALKERS and (node in above.args[:1] or called(above) == "zip")
+        joined = isinstance(above, ast.Call) and isinstance(above.func, ast.Attribute) and above.func.attr == "join"
+        if not behind_in and not walked and not joined:
+            faults.append(("L23", line))
+    if name in ("set", "frozenset"):
+        within = called(above) in ("sorted", "len") and not above.keywords
+        if not within and not isinstance(above, (ast.Compare, ast.BinOp)):
+            faults.append(("L24", line))
+    return faults
+
+
+def def_form_faults(node):
+    """L21 and L28: annotations, and what an __init__ gives back."""
+    faults = []
+    if isinstance(node, ast.FunctionDef):
+        if node.returns or any(part.annotation for part in ast.walk(node) if isinstance(part, ast.arg)):
+            faults.append(("L21", node.lineno))
+        told = [part for part in ast.walk(node) if isinstance(part, ast.Return) and part.value is not None]
+        if node.name == "__init__" and told:
+            faults.append(("L28", node.lineno))
+    if isinstance(node, ast.AnnAssign):
+        faults.append(("L21", node.lineno))
+    return faults
+
+
+def deep_faults(tree):
+    """What is told by what stands around a thing."""
+    faults = []
+    for above in ast.walk(tree):
+        faults.extend(def_form_faults(above))
+        if isinstance(above, ast.Try):
+            faults.extend(handler_faults(above))
+        for node in ast.iter_child_nodes(above):
+            if isinstance(node, ast.Call):
+                faults.extend(call_faults(node, above))
+    return faults
+
+
+def class_names(trees):
+    """The methods and the values of all classes."""
+    methods, values = set(), set()
     for tree in trees:
         for node in ast.walk(tree):
             if isinstance(node, ast.ClassDef):
-                own.update(part.name for part in node.body if isinstance(part, ast.FunctionDef))
+                methods.update(part.name for part in node.body if isinstance(part, ast.FunctionDef))
             if isinstance(node, ast.Attribute) and isinstance(node.ctx, ast.Store):
-                own.add(node.attr)
-    return own
+                values.add(node.attr)
+    return methods, values
+
+
+def class_name_faults(trees):
+    methods, values = class_names(trees)
+    faults = [("L18", name) for name in sorted(methods & values)]
+    free_methods = METHODS | DUNDER_METHODS | {"add", "discard"}
+    faults.extend(("L26", name) for name in sorted(methods & OF_PYTHONS_VALUES - free_methods))
+    faults.extend(("L26", name) for name in sorted(values & (OF_PYTHONS_VALUES | NO_VALUES) - MAY_BE_VALUES))
+    return faults
+
+
+def own_attributes(trees):
+    """What the package's classes have: their methods, and the values that they give to self."""
+    methods, values = class_names(trees)
+    return methods | values
 
 
 def faults_of(source, own=None):
@@ -198,7 +295,7 @@ def faults_of(source, own=None):
             taken.add(node.name)
         elif isinstance(node, ast.ImportFrom):
             taken.update(alias.asname or alias.name for alias in node.names)
-    faults = signs(source) + top(tree)
+    faults = signs(source) + top(tree) + deep_faults(tree)
     for node in ast.walk(tree):
         if isinstance(node, ast.ClassDef):
             faults.extend(class_faults(node))
@@ -229,6 +326,10 @@ class Language(unittest.TestCase):
         for name, source in sources.items():
             with self.subTest(name=name):
                 self.assertEqual(faults_of(source, own), [])
+
+    def test_the_names_of_methods_and_values(self):
+        trees = [ast.parse(path.read_text(encoding="utf-8")) for path in self.files()]
+        self.assertEqual(class_name_faults(trees), [])
 
     def test_no_two_files_draw_from_one_another(self):
         drawn = {}
@@ -267,11 +368,32 @@ class Checker(unittest.TestCase):
                 ("L17", "# the type of it\nx = 3\n"),
                 ("L17", "def f(x):\n    return getattr(x, 'y')\n"),
                 ("L20", "def f(x, y):\n    return x is y\n"),
+                ("L19", "def f(x):\n    try:\n        return int(f(x))\n    except ValueError:\n        return 0\n"),
+                ("L19", "def f(x):\n    try:\n        return int(x)\n    except Exception:\n        return 0\n"),
+                ("L19", "def f(x):\n    try:\n        return x[f(x)]\n    except IndexError:\n        return 0\n"),
+                ("L21", "def f(x: int):\n    return x\n"),
+                ("L22", "def f(x):\n    return int(x, base=3)\n"),
+                ("L23", "def f(x):\n    y = zip(x, x)\n    return list(y)\n"),
+                ("L23", "def f(x):\n    return reversed(x)\n"),
+                ("L23", "def f(x):\n    y = x.items()\n    return list(y)\n"),
+                ("L24", "def f(x):\n    y = set(x)\n    return 3 in y\n"),
+                ("L24", "def f(x):\n    return [y for y in set(x)]\n"),
+                ("L28", "class A:\n    def __init__(self):\n        return None\n"),
                 ("L25", "def f(x):\n    return x.sort()\n"),
                 ("L27", "def f(x):\n    return 2 ** x\n"),
                 ("L27", "def f(x):\n    return '\\x41'\n")):
             with self.subTest(rule=rule, source=source):
                 self.assertIn(rule, [fault[0] for fault in faults_of(source)])
+
+    def test_names_of_methods_and_values_are_seen(self):
+        for rule, source in (
+                ("L18", "class A:\n    def far(self):\n        pass\n\n\n"
+                        "class B:\n    def __init__(self):\n        self.far = 3\n"),
+                ("L26", "class A:\n    def swapcase(self):\n        pass\n"),
+                ("L26", "class A:\n    def __init__(self):\n        self.items = 3\n")):
+            self.assertIn(rule, [fault[0] for fault in class_name_faults([ast.parse(source)])])
+        source = "class A:\n    def __init__(self):\n        self.count = 3\n\n    def find(self):\n        pass\n"
+        self.assertEqual(class_name_faults([ast.parse(source)]), [])
 
     def test_plain_code_has_none(self):
         source = '"""Why."""\n\nLIMIT = 3\n\n\ndef f(xs):\n    return [x for x in xs if x < LIMIT]\n'
